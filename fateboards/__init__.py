@@ -1,0 +1,1 @@
+"""Fateboards: worlds of cells, and papers that tell their fate at all generations."""
