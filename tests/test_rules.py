@@ -121,7 +121,8 @@ class ReadRuleTest(ErrorTest):
             self.assert_place(text, len(text))
 
     def test_a_space_at_the_end(self):
-        for text in ("births 3 stays 2 3 states 2 ", "births ", "births 3 ", "births none ", "births 3 stays 2 states "):
+        whole = "births 3 stays 2 3 states 2 "
+        for text in (whole, "births ", "births 3 ", "births none ", "births 3 stays 2 states "):
             self.assert_place(text, len(text))
 
     def test_a_space_at_the_beginning(self):
