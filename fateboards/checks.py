@@ -2,6 +2,9 @@
 
 from fateboards.errors import BadNumber, NotText
 
+# No place is farther from (0, 0), and no generation is later.
+FAR = 10 ** 60
+
 
 def is_between(value, low, high):
     """Whether a value is an integer from low to high."""

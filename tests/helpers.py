@@ -1,4 +1,4 @@
-"""What the tests share: how an error is looked for, and values of wrong kinds."""
+"""What the tests share: how an error is looked for, values of wrong kinds, rules and boards."""
 
 import copy
 import unittest
@@ -48,8 +48,77 @@ NO_CELLS = NO_TUPLES + (
 )
 
 
+NO_RULES = NO_TUPLES + (
+    (),
+    ((3,), (2, 3)),
+    ((3,), (2, 3), 2, 2),
+    [(3,), (2, 3), 2],
+    ([3], (2, 3), 2),
+    ((3,), [2, 3], 2),
+    ((0, 3), (2, 3), 2),
+    ((9,), (2, 3), 2),
+    ((3, 3), (2, 3), 2),
+    ((3,), (3, 2), 2),
+    ((3,), (-1,), 2),
+    ((3,), (9,), 2),
+    ((True,), (2, 3), 2),
+    ((3,), (False, 2), 2),
+    ((3,), (2, 3), 1),
+    ((3,), (2, 3), 7),
+    ((3,), (2, 3), True),
+    ((3,), (2, 3), None),
+    ((3,), (2, 3), "2"),
+)
+
+# Values that are no boards, and the index that is told of them.
+NO_BOARDS = tuple((value, None) for value in NO_TUPLES) + tuple(((cell,), 0) for cell in NO_CELLS) + (
+    (((0, 0, 1), (0, 0, 1)), 1),
+    (((0, 1, 1), (0, 0, 1)), 1),
+    (((1, 0, 1), (0, 5, 1)), 1),
+    (((0, 0, 1), (1, 0, 1), (2, 0, 0)), 2),
+    (((0, 0, 1), [1, 0, 1], None), 1),
+)
+
+LIFE = ((3,), (2, 3), 2)
+BRAIN = ((2,), (), 3)
+WARS = ((2,), (3, 4, 5), 4)
+REST = ((0, 0, 1), (0, 1, 1), (1, 0, 1), (1, 1, 1))
+ROW = ((0, 0, 1), (1, 0, 1), (2, 0, 1))
+SHIP = ((0, 2, 1), (1, 0, 1), (1, 2, 1), (2, 1, 1), (2, 2, 1))
+
+
+def wrong_numbers(low, high):
+    """Values that are no integers from low to high."""
+    return NO_INTEGERS + (low - 1, high + 1, -10 ** 70, 10 ** 70)
+
+
+def board_of(*rows):
+    """The board of some rows of signs: "." is empty, "a" to "e" are the states from 1 to 5."""
+    cells = [(x, y, ".abcde".index(sign)) for y, row in enumerate(rows) for x, sign in enumerate(row)]
+    return tuple(sorted(cell for cell in cells if cell[2] > 0))
+
+
+def many_numbers(seed):
+    """Numbers from 0 to 32767 without end, the same for the same seed."""
+    number = seed
+    while True:
+        number = (1103515245 * number + 12345) % 2 ** 31
+        yield number // 65536
+
+
 class ErrorTest(unittest.TestCase):
     """A test that looks for errors."""
+
+    def assert_arguments(self, call, right, wrong):
+        """Each wrong argument raises its error, and of several the leftmost one.
+
+        wrong has, for each argument in turn, some (error, fields, value).
+        """
+        for at, cases in enumerate(wrong):
+            for error, fields, value in cases:
+                self.assert_error(error, fields, call, *right[:at], value, *right[at + 1:])
+                behind = tuple(later[0][2] for later in wrong[at + 1:])
+                self.assert_error(error, fields, call, *right[:at], value, *behind)
 
     def assert_error(self, error, fields, call, *arguments):
         """The call raises just this error with these fields, and leaves its arguments as they were."""
