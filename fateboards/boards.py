@@ -1,8 +1,9 @@
 """Boards, moves and places: what they are, and what is told and made of boards."""
 
-from fateboards.cells import corners, lots_of, made_normal, moved, places_near, states_by_place, turned_board
+from fateboards.cells import corners, made_normal, moved, places_near, states_by_place, turned_board
 from fateboards.checks import FAR, check_number, is_between
 from fateboards.errors import BadBoard, BadMove, Clash
+from fateboards.lotting import lots_of
 
 
 def check_board(board):

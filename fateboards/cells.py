@@ -77,26 +77,3 @@ def places_near(place):
     """All 25 places of cells that are near the one at a place, itself among them."""
     x, y = place
     return [(x + right, y + down) for right in range(-2, 3) for down in range(-2, 3)]
-
-
-def lots_of(board):
-    """The parts of a board that hang together by near cells, ascending by their least cells."""
-    left = states_by_place(board)
-    found = []
-    for x, y, _ in board:
-        if (x, y) in left:
-            found.append(_take_lot(left, (x, y)))
-    return found
-
-
-def _take_lot(left, first):
-    """Takes the lot of the cell at first out of the states that are left, and returns it."""
-    lot = []
-    waiting = [first]
-    while waiting:
-        place = waiting.pop()
-        if place in left:
-            lot.append((place[0], place[1], left[place]))
-            del left[place]
-            waiting.extend([near for near in places_near(place) if near in left])
-    return tuple(sorted(lot))

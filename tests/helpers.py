@@ -112,12 +112,12 @@ class ErrorTest(unittest.TestCase):
     def assert_arguments(self, call, right, wrong):
         """Each wrong argument raises its error, and of several the leftmost one.
 
-        wrong has, for each argument in turn, some (error, fields, value).
+        wrong has, for each argument in turn but perhaps the last ones, some (error, fields, value).
         """
         for at, cases in enumerate(wrong):
             for error, fields, value in cases:
                 self.assert_error(error, fields, call, *right[:at], value, *right[at + 1:])
-                behind = tuple(later[0][2] for later in wrong[at + 1:])
+                behind = tuple(later[0][2] for later in wrong[at + 1:]) + right[len(wrong):]
                 self.assert_error(error, fields, call, *right[:at], value, *behind)
 
     def assert_error(self, error, fields, call, *arguments):

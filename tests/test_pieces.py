@@ -13,16 +13,11 @@ from tests.helpers import (
     board_of, many_numbers, wrong_numbers,
 )
 from tests.naive import naive_near, naive_steps
-
-RESTING = (REST, 1, (0, 0))
-TURNING = (ROW, 2, (0, 0))
-SHIPPING = (SHIP, 4, (1, 1))
-PHOTON = (((-1, 0, 2), (-1, 1, 2), (0, 0, 1), (0, 1, 1)), 1, (1, 0))
-PULSAR = board_of(
-    "..aaa...aaa..", ".............", "a....a.a....a", "a....a.a....a", "a....a.a....a", "..aaa...aaa..",
-    ".............",
-    "..aaa...aaa..", "a....a.a....a", "a....a.a....a", "a....a.a....a", ".............", "..aaa...aaa..",
+from tests.samples import (
+    LONG, LONG_RULE, LONGER, PHOTON, PULSAR, RESTING, SHIPPING, SLOWLY_TURNING, SNAKE, TURNING, WARS_GUN,
+    moved_piece, turned_piece,
 )
+
 LONG_ROW = tuple((x, 0, 1) for x in range(10))
 CRAFT = board_of("a..a.", "....a", "a...a", ".aaaa")
 # 75 that rest, of 4 cells each.
@@ -54,14 +49,6 @@ NO_PIECES = NO_TUPLES + (
 ) + tuple((REST, value, (0, 0)) for value in NO_INTEGERS) + tuple((REST, 1, value) for value in NO_PLACES) + tuple(
     (value, 1, (0, 0)) for value, _ in NO_BOARDS
 )
-
-
-def moved_piece(piece, move):
-    return (shifted(piece[0], move),) + piece[1:]
-
-
-def turned_piece(piece, turn):
-    return (turned(piece[0], turn), piece[1], turned((piece[2] + (1,),), turn)[0][:2])
 
 
 def first_near_tried(rule, piece, other, most):
@@ -168,6 +155,7 @@ class ShowsPieceTest(ErrorTest):
     def test_limits_of_steps(self):
         self.assert_error(TooMany, {"most": 3000}, shows_piece, GROWING, (((0, 0, 1),), 100, (0, 0)))
         self.assertIs(shows_piece(GROWING, (((0, 0, 1),), 20, (0, 0))), False)
+        self.assertIs(shows_piece(GROWING, (((0, 0, 1), (3, 0, 2)), 100, (0, 0))), False)
         ship = shifted(SHIP, (FAR - 12, 0))
         self.assertIs(shows_piece(LIFE, (ship, 40, (10, 10))), True)
         self.assert_error(BadBoard, {"index": None}, shows_piece, LIFE, (ship, 44, (11, 11)))
@@ -323,6 +311,15 @@ class FirstNearTest(ErrorTest):
             other = moved_piece(turned_piece(SHIPPING, 3), (20, 20 + away))
             self.assert_first_near(LIFE, SHIPPING, other, first_near_tried(LIFE, SHIPPING, other, 120))
 
+    def test_a_piece_so_quick_that_it_is_beyond_when_the_other_one_comes_round(self):
+        photon = turned_piece(WARS_GUN[3][0], 1)
+        self.assertEqual(photon[1:], (1, (1, 0)))
+        for away in range(20):
+            quick = moved_piece(photon, (-20 - away, 0))
+            told = first_near_tried(WARS, quick, SLOWLY_TURNING, 60)
+            self.assertIsNotNone(told)
+            self.assert_first_near(WARS, quick, SLOWLY_TURNING, told)
+
     def test_pieces_that_move_alike(self):
         for away in range(-8, 9):
             for generation in range(4):
@@ -347,6 +344,11 @@ class FirstNearTest(ErrorTest):
             other = moved_piece((REST, two, (0, 0)), (9, 0))
             self.assert_error(TooMany, {"most": 6000}, first_near, LIFE, (REST, one, (0, 0)), other)
         self.assert_error(TooMany, {"most": 6000}, first_near, LIFE, (REST, 240, (0, 0)), (REST, 127, (0, 0)))
+        self.assert_error(TooMany, {"most": 6000}, first_near, LONG_RULE, LONG, moved_piece(LONGER, (40, 0)))
+        self.assert_first_near(LONG_RULE, LONGER, moved_piece(LONGER, (40, 0)), None)
+        for right in (8, 9):
+            other = moved_piece(turned_piece(LONGER, 3), (right, 6))
+            self.assert_first_near(LONG_RULE, LONGER, other, first_near_tried(LONG_RULE, LONGER, other, 125))
 
     def test_pieces_of_300_cells(self):
         crowd = (CROWD, 240, (0, 0))
@@ -402,7 +404,7 @@ class FormOfTest(ErrorTest):
     def test_one_piece_at_all_generations_and_in_all_ways(self):
         for rule, board in (
             (LIFE, ROW), (LIFE, SHIP), (LIFE, PULSAR), (LIFE, CRAFT), (LIFE, steps(LIFE, LONG_ROW, 100)),
-            (BRAIN, PHOTON[0]),
+            (BRAIN, PHOTON[0]), (LIFE, SNAKE[0]), (WARS, SLOWLY_TURNING[0]),
         ):
             period, move = round_of(rule, board, 20)
             phases = [steps(rule, board, generation) for generation in range(period)]

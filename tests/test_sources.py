@@ -73,6 +73,34 @@ class SourcesTest(unittest.TestCase):
                     name = node.func.attr
                     self.assertTrue(name in METHODS or name in own, (path, node.lineno, name))
 
+    def test_local_names_are_no_imports_and_classes(self):
+        for path, tree in TREES:
+            taken = {name.name for node in ast.walk(tree) if isinstance(node, ast.ImportFrom) for name in node.names}
+            taken |= {node.name for node in tree.body if isinstance(node, ast.ClassDef)}
+            for node in ast.walk(tree):
+                if isinstance(node, ast.arg):
+                    self.assertNotIn(node.arg, taken, (path, node.lineno))
+                if isinstance(node, ast.Name) and isinstance(node.ctx, ast.Store):
+                    self.assertNotIn(node.id, taken, (path, node.lineno))
+
+    def test_a_name_is_no_method_and_attribute_in_one_class(self):
+        for path, tree in TREES:
+            for node in [node for node in tree.body if isinstance(node, ast.ClassDef)]:
+                methods = {part.name for part in node.body if isinstance(part, ast.FunctionDef)}
+                stored = {part.attr for part in ast.walk(node)
+                          if isinstance(part, ast.Attribute) and isinstance(part.ctx, ast.Store)}
+                self.assertEqual(methods & stored, set(), (path, node.name))
+
+    def test_imports_go_one_way(self):
+        follows = {path.stem: [node.module.split(".")[1] for node in ast.walk(tree)
+                               if isinstance(node, ast.ImportFrom) and node.module.startswith("fateboards.")]
+                   for path, tree in TREES}
+        while follows:
+            ends = [name for name in follows if not any(other in follows for other in follows[name])]
+            self.assertNotEqual(ends, [], follows)
+            for name in ends:
+                del follows[name]
+
     def test_words(self):
         for path, tree in TREES:
             names = [node.id for node in ast.walk(tree) if isinstance(node, ast.Name)]

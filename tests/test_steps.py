@@ -147,8 +147,10 @@ class LimitsTest(ErrorTest):
         grown = step(((1, 2, 3), (0, 1, 2, 3, 4, 5, 6, 7, 8), 2), square(60, 50))
         self.assertGreater(len(grown), 3000)
         rule = ((1,), (0, 1, 2, 3, 4, 5, 6, 7, 8), 2)
-        many = next(many for many in itertools.count() if len(naive_steps(rule, ((0, 0, 1),), many)) > 3000)
-        self.assertEqual(steps(rule, ((0, 0, 1),), many), naive_steps(rule, ((0, 0, 1),), many))
+        many, board = 0, ((0, 0, 1),)
+        while len(board) <= 3000:
+            many, board = many + 1, naive_step(rule, board)
+        self.assertEqual(steps(rule, ((0, 0, 1),), many), board)
         self.assert_error(TooMany, {"most": 3000}, steps, rule, ((0, 0, 1),), many + 1)
 
     def test_cells_at_the_last_places(self):
