@@ -18,9 +18,9 @@ def comes_near(start, one, two):
     check_move(one)
     check_move(two)
     reach = reach_of(one, two)
-    key, at = reach.split(start)
+    key, at = reach.locate(start)
     for place in places_near((0, 0)):
-        other, to = reach.split(place)
+        other, to = reach.locate(place)
         if other == key and reach.leads(at, to):
             return True
     return False

@@ -1,6 +1,6 @@
 """Reaches: where two moves, made as often as one likes, may lead.
 
-A reach splits each place into a key and where it is at along the moves: what can be led
+A reach gives each place a key, and tells where it is at along the moves: what can be led
 from one place to another has the same key there, and the reach tells by the two "at" whether
 it is led there by making each of its two moves some number of times from 0 on.
 """
@@ -42,7 +42,7 @@ def reach_of(one, two):
 class NoReach:
     """The reach of two moves that do not move."""
 
-    def split(self, place):
+    def locate(self, place):
         """A place's key, and where it is at."""
         return (place, 0)
 
@@ -59,7 +59,7 @@ class PlaneReach:
         self.two = two
         self.area = cross(one, two)
 
-    def split(self, place):
+    def locate(self, place):
         """A place's key, and where it is at."""
         ones = cross(place, self.two) // self.area
         twos = cross(self.one, place) // self.area
@@ -92,7 +92,7 @@ class LineReach:
         self.twos = twos
         self.inverse = _inverse(twos, ones)
 
-    def split(self, place):
+    def locate(self, place):
         """A place's key, and where it is at."""
         at = how_often(self.unit, place)
         return (minus(place, times(at, self.unit)), at)

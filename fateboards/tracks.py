@@ -109,7 +109,7 @@ def _halo(board, reach):
     places = {place: True for x, y, _ in board for place in places_near((x, y))}
     found = {}
     for place in places:
-        key, at = reach.split(place)
+        key, at = reach.locate(place)
         found.setdefault(key, []).append(at)
     return {key: sorted(found[key]) for key in found}
 
@@ -118,7 +118,7 @@ def _least_way(halo, reach, board, move):
     """How often the reach's first move must be made, at least, to lead a cell of a board, moved, into a halo."""
     least = None
     for x, y, _ in board:
-        key, at = reach.split(plus((x, y), move))
+        key, at = reach.locate(plus((x, y), move))
         if key in halo:
             to = _first_from(halo[key], at)
             if to is not None and (least is None or to - at < least):
@@ -164,7 +164,7 @@ def is_near_elder(young, elder, period, move):
 def _leads_into(halo, reach, board, move):
     """Whether a reach leads some cell of a board, moved, into a halo."""
     for x, y, _ in board:
-        key, at = reach.split(plus((x, y), move))
+        key, at = reach.locate(plus((x, y), move))
         if key in halo and any([reach.leads(at, to) for to in halo[key]]):
             return True
     return False
