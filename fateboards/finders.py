@@ -66,18 +66,31 @@ def find_fate(rule, board, generations, most):
     """The paper of the first generation at which all lots come round and never come near; None without any."""
     check_rule(rule)
     check_board(board)
-    check_number(generations, 0, MOST_GENERATIONS)
-    check_number(most, 1, MOST_PERIOD)
+    check_search(generations, most)
     if not has_states(board, rule[2]):
         return None
-    finder = LotFinder(rule, most)
-    run = Run(rule, board)
+    found = fate_of(LotFinder(rule, most), board, generations)
+    if found is None:
+        return None
+    generation, tracks = found
+    return (generation, _pieces_of_tracks(tracks), ())
+
+
+def check_search(generations, most):
+    """Raises BadNumber for all but the generations and the most that find_fate takes."""
+    check_number(generations, 0, MOST_GENERATIONS)
+    check_number(most, 1, MOST_PERIOD)
+
+
+def fate_of(finder, board, generations):
+    """The first generation at which all lots come round and never come near, and their tracks; None without any."""
+    run = Run(finder.rule, board)
     for generation in range(generations + 1):
         if generation > 0:
             run.advance()
         tracks = finder.tracks_of_lots(run.board(), MOST_PIECES)
         if tracks is not None and stay_apart(tracks, ()):
-            return (generation, _pieces_of_tracks(tracks), ())
+            return (generation, tracks)
     return None
 
 

@@ -1,12 +1,11 @@
 """Pieces: boards that come round, and when two of them are near one another."""
 
 from fateboards.boards import check_board
-from fateboards.cells import made_normal, turned_board
 from fateboards.checks import FAR, check_number
 from fateboards.forms import MOST_PERIOD, has_piece_form
 from fateboards.rules import check_rule
 from fateboards.runs import find_round
-from fateboards.tracks import check_rounds, checked_track, near_generation, track_of
+from fateboards.tracks import check_rounds, checked_track, form_of_track, near_generation, track_of
 
 
 def shows_piece(rule, value):
@@ -43,8 +42,7 @@ def first_near(rule, piece, other):
 def form_of(rule, piece):
     """The least normal board of a piece, at all its generations and in all eight ways."""
     check_rule(rule)
-    track = checked_track(rule, piece)
-    return min([made_normal(turned_board(phase, turn))[0] for phase in track.phases for turn in range(8)])
+    return form_of_track(checked_track(rule, piece))
 
 
 def kind_of(rule, piece):

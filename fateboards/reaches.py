@@ -7,6 +7,7 @@ it is led there by making each of its two moves some number of times from 0 on.
 
 from math import gcd
 
+from fateboards.inverses import inverse
 from fateboards.pairs import cross, how_often, minus, times
 
 NEAR = 2
@@ -90,7 +91,7 @@ class LineReach:
         self.unit = unit
         self.ones = ones
         self.twos = twos
-        self.inverse = _inverse(twos, ones)
+        self.inverse = inverse(twos, ones)
 
     def locate(self, place):
         """A place's key, and where it is at."""
@@ -106,14 +107,3 @@ class LineReach:
         # With so many second moves at least, the first ones can do the rest if it is not too much already.
         least = way * self.inverse % self.ones
         return least * self.twos <= way
-
-
-def _inverse(number, size):
-    """What times number leaves 1 when it is divided by size, with which number has no common part."""
-    before, now = 0, 1
-    large, small = size, number % size
-    while small != 0:
-        many = large // small
-        large, small = small, large - many * small
-        before, now = now, before - many * now
-    return before % size

@@ -2,7 +2,9 @@
 
 from math import gcd, lcm
 
-from fateboards.cells import box_around, corners, has_states, move_between, moved, moved_box, places_near
+from fateboards.cells import (
+    box_around, corners, has_states, made_normal, move_between, moved, moved_box, places_near, turned_board,
+)
 from fateboards.errors import BadPiece, TooMany
 from fateboards.forms import has_piece_form
 from fateboards.pairs import minus, plus, times
@@ -68,6 +70,11 @@ def checked_track(rule, piece):
     if track is None:
         raise BadPiece("not a piece of the rule")
     return track
+
+
+def form_of_track(track):
+    """The least normal board of a track, at all its generations and in all eight ways."""
+    return min([made_normal(turned_board(phase, turn))[0] for phase in track.phases for turn in range(8)])
 
 
 def check_rounds(one, other):

@@ -82,6 +82,9 @@ NO_BOARDS = tuple((value, None) for value in NO_TUPLES) + tuple(((cell,), 0) for
 LIFE = ((3,), (2, 3), 2)
 BRAIN = ((2,), (), 3)
 WARS = ((2,), (3, 4, 5), 4)
+# Under these, boards grow by a cell to all sides at each step, and stay as they are.
+GROWING = ((1,), (0, 1, 2, 3, 4, 5, 6, 7, 8), 2)
+STAYING = ((), (0, 1, 2, 3, 4, 5, 6, 7, 8), 2)
 REST = ((0, 0, 1), (0, 1, 1), (1, 0, 1), (1, 1, 1))
 ROW = ((0, 0, 1), (1, 0, 1), (2, 0, 1))
 SHIP = ((0, 2, 1), (1, 0, 1), (1, 2, 1), (2, 1, 1), (2, 2, 1))

@@ -2,7 +2,9 @@
 
 from fateboards.boards import shifted, turned
 from fateboards.texts import read_board
-from tests.helpers import REST, ROW, SHIP, board_of
+from tests.helpers import (
+    NO_BOARDS, NO_INTEGERS, NO_PLACES, NO_TUPLES, REST, ROW, SHIP, board_of,
+)
 
 RESTING = (REST, 1, (0, 0))
 TURNING = (ROW, 2, (0, 0))
@@ -14,6 +16,34 @@ PULSAR = board_of(
 )
 PHOTON = (((-1, 0, 2), (-1, 1, 2), (0, 0, 1), (0, 1, 1)), 1, (1, 0))
 TRAIL_RULE = ((2,), (0,), 4)
+# 75 that rest, of 4 cells each.
+CROWD = tuple((5 * place + x, y, 1) for place in range(75) for x, y, _ in REST)
+
+# Values that are no pieces under LIFE.
+NO_PIECES = NO_TUPLES + (
+    (),
+    (REST, 1),
+    (REST, 1, (0, 0), ()),
+    [REST, 1, (0, 0)],
+    (REST, 2, (1, 0)),
+    (REST, 0, (0, 0)),
+    (REST, 241, (0, 0)),
+    (ROW, 1, (0, 0)),
+    (ROW, 3, (0, 0)),
+    (SHIP, 4, (1, 0)),
+    (SHIP, 4, (-1, -1)),
+    (SHIP, 8, (1, 1)),
+    (SHIP, 3, (1, 1)),
+    ((), 1, (0, 0)),
+    (CROWD + ((400, 0, 1),), 1, (0, 0)),
+    (((0, 0, 2), (0, 1, 2)), 1, (0, 0)),
+    (tuple(sorted(REST + ((9, 9, 2),))), 1, (0, 0)),
+    (((0, 0, 1),), 1, (0, 0)),
+    (REST[::-1], 1, (0, 0)),
+    (list(REST), 1, (0, 0)),
+) + tuple((REST, value, (0, 0)) for value in NO_INTEGERS) + tuple((REST, 1, value) for value in NO_PLACES) + tuple(
+    (value, 1, (0, 0)) for value, _ in NO_BOARDS
+)
 
 
 def placed(text, place):

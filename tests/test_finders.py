@@ -12,15 +12,13 @@ from fateboards.pieces import first_near, round_of
 from fateboards.steps import step, steps
 from fateboards.throwers import shows_thrower
 from tests.helpers import (
-    BRAIN, FAR, LIFE, NO_BOARDS, NO_RULES, REST, ROW, SHIP, WARS, ErrorTest, board_of, many_numbers, wrong_numbers,
+    BRAIN, FAR, GROWING, LIFE, NO_BOARDS, NO_RULES, REST, ROW, SHIP, STAYING, WARS, ErrorTest, board_of, many_numbers,
+    wrong_numbers,
 )
 from tests.samples import (
     GREAT_RAKE, GUN, LONG, LONG_RULE, LONGER, PHOTON, PULSAR, RAKE, RESTING, SLOW, TRAIL, TRAIL_RULE, WARS_GUN,
     moved_thrower, throwers_together, turned_thrower,
 )
-
-GROWING = ((1,), (0, 1, 2, 3, 4, 5, 6, 7, 8), 2)
-STAYING = ((), (0, 1, 2, 3, 4, 5, 6, 7, 8), 2)
 
 
 def crowd(many):

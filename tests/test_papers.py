@@ -9,8 +9,8 @@ from fateboards.papers import fate_board, fate_box, fate_cell, fate_living, show
 from fateboards.pieces import shows_piece
 from fateboards.steps import steps
 from tests.helpers import (
-    BRAIN, FAR, LIFE, NO_BOARDS, NO_INTEGERS, NO_PLACES, NO_RULES, NO_TUPLES, REST, ROW, SHIP, WARS, ErrorTest,
-    many_numbers, wrong_numbers,
+    BRAIN, FAR, GROWING, LIFE, NO_BOARDS, NO_INTEGERS, NO_PLACES, NO_RULES, NO_TUPLES, REST, ROW, SHIP, STAYING, WARS,
+    ErrorTest, many_numbers, wrong_numbers,
 )
 from tests.naive import naive_meeting
 from tests.samples import (
@@ -29,8 +29,6 @@ SAMPLES = (
     (TRAIL_RULE, (0, (), (TRAIL,))),
     (TRAIL_RULE, (0, (), (turned_thrower(SLOW, 5),))),
 )
-GROWING = ((1,), (0, 1, 2, 3, 4, 5, 6, 7, 8), 2)
-STAYING = ((), (0, 1, 2, 3, 4, 5, 6, 7, 8), 2)
 CALLS = (fate_living, fate_box, fate_board)
 
 NO_PAPERS = NO_TUPLES + (

@@ -9,46 +9,17 @@ from fateboards.errors import BadBoard, BadNumber, BadPiece, BadRule, TooMany
 from fateboards.pieces import first_near, form_of, kind_of, piece_at, round_of, shows_piece
 from fateboards.steps import steps
 from tests.helpers import (
-    BRAIN, FAR, LIFE, NO_BOARDS, NO_INTEGERS, NO_PLACES, NO_RULES, NO_TUPLES, REST, ROW, SHIP, WARS, ErrorTest,
-    board_of, many_numbers, wrong_numbers,
+    BRAIN, FAR, GROWING, LIFE, NO_BOARDS, NO_RULES, REST, ROW, SHIP, STAYING, WARS, ErrorTest, board_of, many_numbers,
+    wrong_numbers,
 )
 from tests.naive import naive_near, naive_steps
 from tests.samples import (
-    LONG, LONG_RULE, LONGER, PHOTON, PULSAR, RESTING, SHIPPING, SLOWLY_TURNING, SNAKE, TURNING, WARS_GUN,
-    moved_piece, turned_piece,
+    CROWD, LONG, LONG_RULE, LONGER, NO_PIECES, PHOTON, PULSAR, RESTING, SHIPPING, SLOWLY_TURNING, SNAKE, TURNING,
+    WARS_GUN, moved_piece, turned_piece,
 )
 
 LONG_ROW = tuple((x, 0, 1) for x in range(10))
 CRAFT = board_of("a..a.", "....a", "a...a", ".aaaa")
-# 75 that rest, of 4 cells each.
-CROWD = tuple((5 * place + x, y, 1) for place in range(75) for x, y, _ in REST)
-GROWING = ((1,), (0, 1, 2, 3, 4, 5, 6, 7, 8), 2)
-STAYING = ((), (0, 1, 2, 3, 4, 5, 6, 7, 8), 2)
-
-NO_PIECES = NO_TUPLES + (
-    (),
-    (REST, 1),
-    (REST, 1, (0, 0), ()),
-    [REST, 1, (0, 0)],
-    (REST, 2, (1, 0)),
-    (REST, 0, (0, 0)),
-    (REST, 241, (0, 0)),
-    (ROW, 1, (0, 0)),
-    (ROW, 3, (0, 0)),
-    (SHIP, 4, (1, 0)),
-    (SHIP, 4, (-1, -1)),
-    (SHIP, 8, (1, 1)),
-    (SHIP, 3, (1, 1)),
-    ((), 1, (0, 0)),
-    (CROWD + ((400, 0, 1),), 1, (0, 0)),
-    (((0, 0, 2), (0, 1, 2)), 1, (0, 0)),
-    (tuple(sorted(REST + ((9, 9, 2),))), 1, (0, 0)),
-    (((0, 0, 1),), 1, (0, 0)),
-    (REST[::-1], 1, (0, 0)),
-    (list(REST), 1, (0, 0)),
-) + tuple((REST, value, (0, 0)) for value in NO_INTEGERS) + tuple((REST, 1, value) for value in NO_PLACES) + tuple(
-    (value, 1, (0, 0)) for value, _ in NO_BOARDS
-)
 
 
 def first_near_tried(rule, piece, other, most):

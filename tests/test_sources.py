@@ -6,6 +6,8 @@ import pathlib
 import re
 import unittest
 
+from fateboards import errors
+
 PACKAGE = pathlib.Path(__file__).parent.parent / "fateboards"
 FILES = sorted(PACKAGE.rglob("*.py"))
 LIBRARY = ("heapq", "math", "itertools", "collections", "__future__")
@@ -122,7 +124,7 @@ class SourcesTest(unittest.TestCase):
                 self.assertEqual(getattr(node, "decorator_list", []), [], path)
                 if isinstance(node, ast.Try):
                     for handler in node.handlers:
-                        self.assertTrue(re.match("Bad|Invalid|Too", handler.type.id), path)
+                        self.assertTrue(hasattr(errors, handler.type.id), path)
                 if isinstance(node, ast.BinOp) and isinstance(node.op, ast.Pow):
                     self.assertIsInstance(node.right, ast.Constant, path)
                 if isinstance(node, ast.Compare) and isinstance(node.ops[0], (ast.Is, ast.IsNot)):

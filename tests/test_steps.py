@@ -8,13 +8,11 @@ from fateboards.errors import BadBoard, BadNumber, BadRule, TooMany
 from fateboards.floors import BitFloor, CellFloor
 from fateboards.steps import step, steps
 from tests.helpers import (
-    BRAIN, FAR, LIFE, NO_BOARDS, NO_RULES, REST, ROW, SHIP, ErrorTest, many_numbers, wrong_numbers,
+    BRAIN, FAR, LIFE, NO_BOARDS, NO_RULES, REST, ROW, SHIP, STAYING, ErrorTest, many_numbers, wrong_numbers,
 )
 from tests.naive import naive_step, naive_steps
 
 AROUND = tuple((x, y) for x in (-1, 0, 1) for y in (-1, 0, 1) if (x, y) != (0, 0))
-# These stay as they are under a rule of all stays and no births.
-STAYING = ((), (0, 1, 2, 3, 4, 5, 6, 7, 8), 2)
 
 
 def square(wide, high, more=0):

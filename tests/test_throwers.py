@@ -9,7 +9,8 @@ from fateboards.pieces import shows_piece
 from fateboards.steps import steps
 from fateboards.throwers import shows_thrower
 from tests.helpers import (
-    BRAIN, FAR, LIFE, NO_BOARDS, NO_INTEGERS, NO_PLACES, NO_RULES, NO_TUPLES, REST, WARS, ErrorTest, many_numbers,
+    BRAIN, FAR, GROWING, LIFE, NO_BOARDS, NO_INTEGERS, NO_PLACES, NO_RULES, NO_TUPLES, REST, WARS, ErrorTest,
+    many_numbers,
 )
 from tests.naive import naive_meeting
 from tests.samples import (
@@ -18,7 +19,6 @@ from tests.samples import (
 )
 
 SAMPLES = ((LIFE, GUN), (WARS, WARS_GUN), (BRAIN, RAKE), (BRAIN, GREAT_RAKE), (TRAIL_RULE, TRAIL), (TRAIL_RULE, SLOW))
-GROWING = ((1,), (0, 1, 2, 3, 4, 5, 6, 7, 8), 2)
 # Guns beside one another that all throw upwards.
 ROW_OF_GUNS = tuple(moved_thrower(WARS_GUN, (40 * place, 0)) for place in range(7))
 
