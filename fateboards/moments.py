@@ -19,12 +19,14 @@ class Start:
         self.rule = rule
         self.first = generation
         self.laid = board
-        self.last_run = Run(rule, board)
+        self.last_run = None
         self.steps = 0
 
     def after(self, many):
         """What the board becomes in so many steps."""
-        if many < self.steps:
+        if many == 0:
+            return self.laid
+        if self.last_run is None or many < self.steps:
             self.last_run = Run(self.rule, self.laid)
             self.steps = 0
         while self.steps < many:

@@ -12,7 +12,7 @@ from fateboards.papers import fate_board, fate_box, fate_cell, fate_living
 from fateboards.sessions import Session
 from fateboards.steps import steps
 from tests.helpers import (
-    BRAIN, FAR, GROWING, LIFE, NO_BOARDS, NO_PLACES, NO_RULES, REST, ROW, SHIP, WARS, ErrorTest, board_of,
+    BRAIN, FAR, GROWING, LIFE, NO_BOARDS, NO_PLACES, NO_RULES, REST, ROW, SHIP, STAYING, WARS, ErrorTest, board_of,
     many_numbers, wrong_numbers,
 )
 from tests.samples import GUN, PHOTON, RAKE, WARS_GUN, slowed_throws
@@ -253,6 +253,21 @@ class TellingTest(SessionTest):
         self.assertEqual(session.board(), crowd)
         session.step(1)
         self.assert_error(TooMany, {"most": 3000}, session.living)
+
+    def test_too_many_cells_for_a_paper_to_tell_them_all(self):
+        rows = tuple((x, 9 * y, 1) for x in range(300) for y in range(11))
+        session = session_of(STAYING, rows)
+        self.assertEqual(session.board(), rows)
+        self.assertEqual(session.know(0, 1)[0], 0)
+        # It is the paper that tells the board from here on, also at the start itself.
+        for generation in (0, 1, FAR):
+            session.go(generation)
+            self.assert_left(session, TooMany, {"most": 3000}, session.board)
+            self.assert_left(session, TooMany, {"most": 3000}, session.put, (0, 0), 0)
+            self.assertEqual((session.living(), session.box()), (3300, (0, 0, 299, 90)))
+        for _ in range(4):
+            session.undo()
+        self.assertEqual(session.board(), rows)
 
     def test_steps_beyond_the_last_places(self):
         session = session_of(LIFE, shifted(SHIP, (FAR - 3, 0)))

@@ -60,6 +60,15 @@ class SourcesTest(unittest.TestCase):
                     if node.module not in LIBRARY:
                         self.assertTrue(node.module.startswith("fateboards."), (path, node.module))
 
+    def test_imports_name_the_file_that_defines(self):
+        for path, tree in TREES:
+            for node in ast.walk(tree):
+                if isinstance(node, ast.ImportFrom) and node.module not in LIBRARY:
+                    body = ast.parse((PACKAGE / (node.module.split(".")[1] + ".py")).read_text(encoding="utf-8")).body
+                    made = {part.name for part in body if isinstance(part, (ast.FunctionDef, ast.ClassDef))}
+                    made |= {name.id for part in body if isinstance(part, ast.Assign) for name in part.targets}
+                    self.assertLessEqual({name.name for name in node.names}, made, path)
+
     def test_names(self):
         defined = (ast.FunctionDef, ast.ClassDef)
         own = {node.name for _, tree in TREES for node in ast.walk(tree) if isinstance(node, defined)}
